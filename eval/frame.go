@@ -49,7 +49,7 @@ const (
 )
 
 // take takes an output.
-func (f *frame) take(m *machine, out item) {
+func (f *frame) take(m *Machine, out item) {
 	switch f.kind {
 	case bottom:
 		m.outs = append(m.outs, out.value)
@@ -92,7 +92,7 @@ func (f *frame) take(m *machine, out item) {
 }
 
 // ask asks a frame on top of the stack for the next output.
-func (f *frame) ask(m *machine) {
+func (f *frame) ask(m *Machine) {
 	if f.kind == iterating {
 		f.iterate(m)
 		return
@@ -116,7 +116,7 @@ func (f *frame) ask(m *machine) {
 }
 
 // catch lets a frame on top of the stack catch the error w, or leaves it to the frame below.
-func (f *frame) catch(m *machine, w api.Value) {
+func (f *frame) catch(m *Machine, w api.Value) {
 	m.pop()
 	switch f.kind {
 	case bottom:
@@ -132,13 +132,13 @@ func (f *frame) catch(m *machine, w api.Value) {
 }
 
 // leave gives an output of element 0 to the consumer, whose errors do not concern f.
-func (f *frame) leave(m *machine, out item) {
+func (f *frame) leave(m *Machine, out item) {
 	m.push(&frame{kind: leaving, other: f})
 	m.give(out, f.taker)
 }
 
 // recover goes on behind an error of element 0 of an OpTry.
-func (f *frame) recover(m *machine, w api.Value) {
+func (f *frame) recover(m *Machine, w api.Value) {
 	if len(f.node.subs) < 2 {
 		m.ask()
 		return
@@ -146,7 +146,7 @@ func (f *frame) recover(m *machine, w api.Value) {
 	m.start(&f.node.subs[1], f.scope, f.in.like(w), f.taker)
 }
 
-func (f *frame) prefer(m *machine, out item) {
+func (f *frame) prefer(m *Machine, out item) {
 	if !truthy(out.value) {
 		m.ask()
 		return
@@ -156,7 +156,7 @@ func (f *frame) prefer(m *machine, out item) {
 }
 
 // preferNext goes on behind the outputs of element 0 of an OpAlt.
-func (f *frame) preferNext(m *machine) {
+func (f *frame) preferNext(m *Machine) {
 	if f.found {
 		m.ask()
 		return
@@ -164,7 +164,7 @@ func (f *frame) preferNext(m *machine) {
 	m.start(&f.node.subs[1], f.scope, f.in, f.taker)
 }
 
-func (f *frame) collect(m *machine, out item) {
+func (f *frame) collect(m *Machine, out item) {
 	longer, ok := f.held.path.with(out.value)
 	if !ok {
 		m.failWith(api.ErrLimit)
@@ -175,7 +175,7 @@ func (f *frame) collect(m *machine, out item) {
 }
 
 // decide goes on behind an output of element 0 of an OpOr, OpAnd or OpIf.
-func (f *frame) decide(m *machine, isTrue bool) {
+func (f *frame) decide(m *Machine, isTrue bool) {
 	switch {
 	case f.node.op == api.OpIf && isTrue:
 		m.start(&f.node.subs[1], f.scope, f.in, f.taker)
@@ -191,7 +191,7 @@ func (f *frame) decide(m *machine, isTrue bool) {
 }
 
 // beginState begins an OpReduce or OpForeach with the state s.
-func (f *frame) beginState(m *machine, s item) {
+func (f *frame) beginState(m *Machine, s item) {
 	later := *f
 	later.held = s
 	if f.node.op == api.OpReduce {
@@ -204,20 +204,20 @@ func (f *frame) beginState(m *machine, s item) {
 }
 
 // update begins the update of the state of an OpReduce.
-func (f *frame) update(m *machine, x api.Value) {
+func (f *frame) update(m *Machine, x api.Value) {
 	u := m.push(&frame{kind: updating, held: f.in.like(api.Value{}), other: f})
 	m.start(&f.node.subs[2], f.scope.withValue(x), f.held, u)
 }
 
 // advance begins the update of the state of an OpForeach.
-func (f *frame) advance(m *machine, x api.Value) {
+func (f *frame) advance(m *Machine, x api.Value) {
 	later := *f
 	later.kind, later.scope, later.other = extracting, f.scope.withValue(x), f
 	m.start(&f.node.subs[2], later.scope, f.held, &later)
 }
 
 // gather evaluates the next element of the node, or the node for the outputs of all its elements.
-func (f *frame) gather(m *machine) {
+func (f *frame) gather(m *Machine) {
 	if f.index == len(f.node.subs) {
 		f.combine(m, f.gathered())
 		return
@@ -230,7 +230,7 @@ func (f *frame) gather(m *machine) {
 }
 
 // gatherNext goes on with an output of the element.
-func (f *frame) gatherNext(m *machine, out item) {
+func (f *frame) gatherNext(m *Machine, out item) {
 	if f.node.op == api.OpObject && f.index%2 == 0 && out.value.Kind != api.String {
 		m.failWith(api.ErrType)
 		return
@@ -252,7 +252,7 @@ func (f *frame) gathered() []item {
 }
 
 // combine evaluates the node for the outputs of its elements.
-func (f *frame) combine(m *machine, l []item) {
+func (f *frame) combine(m *Machine, l []item) {
 	switch f.node.op {
 	case api.OpIndex:
 		f.step(m, l[0], l[1].value)
@@ -279,7 +279,7 @@ func (f *frame) combine(m *machine, l []item) {
 }
 
 // step gives the part of x that the step s denotes.
-func (f *frame) step(m *machine, x item, s api.Value) {
+func (f *frame) step(m *Machine, x item, s api.Value) {
 	v, e := path.Step(x.value, s)
 	if e != api.OK {
 		m.failWith(e)
@@ -289,7 +289,7 @@ func (f *frame) step(m *machine, x item, s api.Value) {
 }
 
 // reach gives v, to which the steps lead from x.
-func (f *frame) reach(m *machine, x item, v api.Value, steps ...api.Value) {
+func (f *frame) reach(m *Machine, x item, v api.Value, steps ...api.Value) {
 	out, ok := x.extended(v, steps...)
 	if !ok {
 		m.failWith(api.ErrLimit)
@@ -299,7 +299,7 @@ func (f *frame) reach(m *machine, x item, v api.Value, steps ...api.Value) {
 }
 
 // enter begins with the elements of x.
-func (f *frame) enter(m *machine, x item) {
+func (f *frame) enter(m *Machine, x item) {
 	if x.value.Kind != api.Array && x.value.Kind != api.Object {
 		m.failWith(api.ErrType)
 		return
@@ -309,7 +309,7 @@ func (f *frame) enter(m *machine, x item) {
 }
 
 // iterate gives the next element.
-func (f *frame) iterate(m *machine) {
+func (f *frame) iterate(m *Machine) {
 	if f.index == len(f.held.value.Elems) {
 		m.pop()
 		return
@@ -323,7 +323,7 @@ func (f *frame) iterate(m *machine) {
 }
 
 // build gives the object whose keys and values are in l by turns.
-func (f *frame) build(m *machine, l []item) {
+func (f *frame) build(m *Machine, l []item) {
 	var keys []string
 	var elems []api.Value
 	for i := 0; i < len(l); i += 2 {
@@ -335,7 +335,7 @@ func (f *frame) build(m *machine, l []item) {
 }
 
 // apply gives the result of a builtin.
-func (f *frame) apply(m *machine, l []item) {
+func (f *frame) apply(m *Machine, l []item) {
 	var args []api.Value
 	for _, x := range l {
 		args = append(args, x.value)
@@ -354,7 +354,7 @@ func (f *frame) apply(m *machine, l []item) {
 }
 
 // pass evaluates the next parameter with a dollar sign of the function that is called, or its body.
-func (f *frame) pass(m *machine) {
+func (f *frame) pass(m *Machine) {
 	def := f.node.def
 	for f.index < len(def.params) {
 		arg := &f.node.subs[f.index]
@@ -369,7 +369,7 @@ func (f *frame) pass(m *machine) {
 }
 
 // passNext goes on with a value of the parameter.
-func (f *frame) passNext(m *machine, x api.Value) {
+func (f *frame) passNext(m *Machine, x api.Value) {
 	// A copy, as f may take further values.
 	later := *f
 	later.inner = f.inner.withValue(x)
